@@ -1,0 +1,1 @@
+"""Quietpairs: partners within one group, and the odd rings that stand in the way."""
