@@ -18,7 +18,7 @@ def _fits(group, x, a):
     return b is None or ((a, b) in group and x[b] == a)
 
 
-def _check_dealing(group, x):
+def check_dealing(group, x):
     """Raise NoDealing if the value is not a dealing of the group."""
     if not is_dealing(group, x):
         raise NoDealing()
@@ -32,7 +32,7 @@ def _above(group, x, a):
 
 def quarrels(group, x):
     """The sorted list of the quarrels of a dealing."""
-    _check_dealing(group, x)
+    check_dealing(group, x)
     above = {a: _above(group, x, a) for a in group}
     return [(a, b) for a, b in group.pairs() if b in above[a] and a in above[b]]
 
@@ -49,7 +49,7 @@ def _written(x):
 
 def as_pairs(group, x):
     """The dealing written as pairs."""
-    _check_dealing(group, x)
+    check_dealing(group, x)
     return _written(x)
 
 

@@ -116,12 +116,17 @@ def rings_of(x):
     return rings
 
 
+def pair_along(x, ring):
+    """Pair the people of a ring off in x, from its first person on; the last one of an odd ring is passed by."""
+    for k in range(0, len(ring) - 1, 2):
+        x[ring[k]] = ring[k + 1]
+        x[ring[k + 1]] = ring[k]
+
+
 def split_rings(x):
     """The same dict, but each ring of an even number of people is split into pairs, from its least person on."""
     split = dict(x)
     for ring in rings_of(x):
         if len(ring) % 2 == 0:
-            for k in range(0, len(ring), 2):
-                split[ring[k]] = ring[k + 1]
-                split[ring[k + 1]] = ring[k]
+            pair_along(split, ring)
     return split

@@ -1,5 +1,6 @@
 """What several tests use: groups, values of every kind, and a search that knows only the wishes."""
 
+import itertools
 import random
 
 from quietpairs.groups import Group
@@ -32,6 +33,24 @@ def everybody(many):
     return Group(people, {a: [b for b in people if b != a] for a in people})
 
 
+def ring_group(*sizes):
+    """Rings of these sizes, one behind the other: each person likes the next one of the ring above the one before."""
+    wishes = {}
+    for size in sizes:
+        ring = NAMES[len(wishes):len(wishes) + size]
+        around = {a: [ring[(k + 1) % size], ring[k - 1]] for k, a in enumerate(ring)}
+        wishes.update({a: [b for b in dict.fromkeys(row) if b != a] for a, row in around.items()})
+    return Group(NAMES[:len(wishes)], wishes)
+
+
+def two_sides(many):
+    """Two sides of that many people, who wish for the other side alone; there are as many calm dealings."""
+    left, right = NAMES[:many], NAMES[many:2 * many]
+    wishes = {a: [right[(k + j) % many] for j in range(many)] for k, a in enumerate(left)}
+    wishes.update({a: [left[(k + j + 1) % many] for j in range(many)] for k, a in enumerate(right)})
+    return Group(left + right, wishes)
+
+
 def random_group(source, many, part):
     """A group of that many people; a person leaves out wishes with the probability `part`."""
     people = list(NAMES[:many])
@@ -50,6 +69,46 @@ def random_groups(seed, times, least, most):
     return [random_group(source, source.randint(least, most), source.choice((0, 0.3, 1))) for _ in range(times)]
 
 
+def renamed_groups(seed, group, times):
+    """The group, whose people are called otherwise and stand in another party order, that many times."""
+    source = random.Random(seed)
+    found = []
+    for _ in range(times):
+        people = group.people()
+        names = dict(zip(people, source.sample(NAMES, len(people))))
+        source.shuffle(people)
+        wishes = {names[a]: [names[b] for b in group.wishes(a)] for a in people}
+        found.append(Group(tuple(names[a] for a in people), wishes))
+    return found
+
+
+def changed_groups(seed, group, times):
+    """The group after a few random changes of wishes, that many times."""
+    source = random.Random(seed)
+    found = []
+    for _ in range(times):
+        wishes = {a: group.wishes(a) for a in group}
+        for _ in range(source.randint(1, 6)):
+            # Somebody comes to be open to somebody else, or two places are exchanged.
+            a, b = source.sample(group.people(), 2)
+            for c, d in ((a, b), (b, a)):
+                if d in wishes[c]:
+                    wishes[c].remove(d)
+                wishes[c].insert(source.randint(0, len(wishes[c])), d)
+        found.append(Group(tuple(group.people()), wishes))
+    return found
+
+
+def small_groups():
+    """Groups of up to eight people, with a calm dealing or without one, some of them with several."""
+    found = random_groups(41, 150, 0, 6) + random_groups(42, 20, 7, 7) + changed_groups(43, two_sides(3), 40)
+    found.extend(changed_groups(44, two_sides(4), 12) + changed_groups(45, ring_group(4, 4), 4))
+    for seed, group in enumerate((two_sides(2), two_sides(3), ring_group(4), ring_group(4, 1), ring_group(4, 2),
+                                  ring_group(4, 3), ring_group(6), ring_group(3, 3), ring_group(5, 2))):
+        found.extend(renamed_groups(seed, group, 3))
+    return found
+
+
 def nested(kind, depth):
     """A value in a list, tuple or dict, that many deep."""
     value = "ann"
@@ -65,6 +124,17 @@ def any_values():
         [], [1], ["ann"], ["ann", "ann"], [["ann"]], (), ("ann",), ("ann", "bob", "cat"), (1, 2), (["ann"], "bob"),
         {}, {"ann": None}, {"ann": "bob"}, {1: "ann"}, {("ann", "bob"): ["cat"]}, {None: {}},
         nested("list", 90), nested("tuple", 90), nested("dict", 90), triangle(), [triangle()], {"ann": triangle()},
+    ]
+
+
+def bad_dealings():
+    """Values that are nearly dealings of the triangle."""
+    return [
+        {"ann": "bob", "bob": "ann"}, {"ann": None, "bob": None, "cat": None, "dan": None},
+        {"ann": "bob", "bob": None, "cat": None}, {"ann": "bob", "bob": "cat", "cat": "ann"},
+        {"ann": "ann", "bob": None, "cat": None}, {"ann": "bob", "bob": "ann", "cat": "ann"},
+        {"ann": None, "bob": None, 1: None}, {"ann": None, "bob": None, ("cat",): None},
+        {"ann": "dan", "bob": None, "cat": None}, [("ann", "bob")], "ann", ("ann", "bob"),
     ]
 
 
@@ -119,19 +189,80 @@ def plain_calm(group):
     return sorted(plain_pairs(x) for x in plain_dealings(group) if not plain_quarrels(group, x))
 
 
-def is_half(group, x):
-    """Whether x is a half as point 14 says, read off the wishes alone."""
-    wishes = {a: [b for b in group.wishes(a) if a in group.wishes(b)] for a in group.people()}
-    if sorted(x) != sorted(wishes) or sorted(x.values()) != sorted(wishes):
-        return False
-    before = {b: a for a, b in x.items()}
+def turned(x):
+    """The same dict with its keys in another order."""
+    return {a: x[a] for a in reversed(list(x))}
+
+
+def plain_calm_dicts(group):
+    """All calm dealings as dicts, by a search through all dealings."""
+    return [x for x in plain_dealings(group) if not plain_quarrels(group, x)]
+
+
+def calm_groups():
+    """Small groups with at least one calm dealing, with all calm dealings of each."""
+    found = [(group, plain_calm_dicts(group)) for group in small_groups()]
+    return [(group, dealings) for group, dealings in found if dealings]
+
+
+def open_rows(group):
+    """The people who are open to each person, read off the wishes alone."""
+    wishes = {a: group.wishes(a) for a in group.people()}
+    return {a: [b for b in wishes[a] if a in wishes[b]] for a in wishes}
+
+
+def ring_from(x, a):
+    """The ring of a, as a list that begins with a."""
+    ring = [a]
+    while x[ring[-1]] != a:
+        ring.append(x[ring[-1]])
+    return ring
+
+
+def plain_fault(group, x):
+    """What point 17 says of a dict from people to people, read off the wishes alone."""
+    rows = open_rows(group)
+    if sorted(x) != sorted(rows) or sorted(x.values()) != sorted(rows):
+        return ("form",)
+    for a in sorted(x):
+        if x[a] != a and x[a] not in rows[a]:
+            return ("open", a, x[a])
+    before = {a: ring_from(x, a)[-1] for a in x}
+    for a in sorted(x):
+        if len(ring_from(x, a)) > 2 and rows[a].index(x[a]) > rows[a].index(before[a]):
+            return ("order", a)
 
     def wants(a, b):
-        return b in wishes[a] and (x[a] == a or wishes[a].index(b) < wishes[a].index(before[a]))
+        return b in rows[a] and (x[a] == a or rows[a].index(b) < rows[a].index(before[a]))
 
-    for a, b in x.items():
-        if b != a and b not in wishes[a]:
-            return False
-        if b != before[a] and wishes[a].index(b) > wishes[a].index(before[a]):
-            return False
-    return not any(wants(a, b) and wants(b, a) for a in x for b in x if a != b)
+    quarrels = [(a, b) for a in x for b in x if a < b and wants(a, b) and wants(b, a)]
+    return ("quarrel", *min(quarrels)) if quarrels else None
+
+
+def is_half(group, x):
+    """Whether x is a half as point 14 says, read off the wishes alone."""
+    return plain_fault(group, x) is None
+
+
+def is_plain(x):
+    """Whether each ring has one or two people or an odd number of people."""
+    return all(len(ring_from(x, a)) == 2 or len(ring_from(x, a)) % 2 == 1 for a in x)
+
+
+def plain_halves(group):
+    """All halves of a group, found by going through all dicts."""
+    people = group.people()
+    dicts = [dict(zip(people, row)) for row in itertools.permutations(people)]
+    return [x for x in dicts if is_half(group, x)]
+
+
+def plain_lots(x):
+    """The people of the odd rings of a half."""
+    rings = {tuple(sorted(ring_from(x, a))) for a in x}
+    return sorted(ring for ring in rings if len(ring) % 2 == 1)
+
+
+def some_half(group):
+    """The first half of the group in the order of all dicts."""
+    return next(x for x in (dict(zip(group.people(), row)) for row in itertools.permutations(group.people()))
+                if is_half(group, x))

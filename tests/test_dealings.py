@@ -2,20 +2,13 @@
 
 import unittest
 
-from helpers import any_values, matchings, plain_dealings, plain_pairs, plain_quarrels, raises, random_groups
-from helpers import square, triangle, uneven
+from helpers import any_values, bad_dealings, matchings, plain_dealings, plain_pairs, plain_quarrels, raises
+from helpers import random_groups, square, triangle, uneven
 from quietpairs.dealings import as_pairs, from_pairs, is_calm, is_dealing, quarrels
 from quietpairs.errors import NoDealing
 from quietpairs.groups import Group
 
 EMPTY = Group((), {})
-BAD_DEALINGS = [
-    {"ann": "bob", "bob": "ann"}, {"ann": None, "bob": None, "cat": None, "dan": None},
-    {"ann": "bob", "bob": None, "cat": None}, {"ann": "bob", "bob": "cat", "cat": "ann"},
-    {"ann": "ann", "bob": None, "cat": None}, {"ann": "bob", "bob": "ann", "cat": "ann"},
-    {"ann": None, "bob": None, 1: None}, {"ann": None, "bob": None, ("cat",): None},
-    {"ann": "dan", "bob": None, "cat": None}, [("ann", "bob")], "ann", ("ann", "bob"),
-]
 
 
 class IsDealing(unittest.TestCase):
@@ -27,7 +20,7 @@ class IsDealing(unittest.TestCase):
         self.assertIs(is_dealing(EMPTY, {}), True)
 
     def test_any_value(self):
-        for x in any_values() + BAD_DEALINGS:
+        for x in any_values() + bad_dealings():
             with self.subTest(x=x):
                 self.assertIs(is_dealing(triangle(), x), False)
                 self.assertIs(is_calm(triangle(), x), False)

@@ -4,8 +4,12 @@ import unittest
 
 from helpers import raises
 from quietpairs.dealings import calm, quarrels
-from quietpairs.errors import BadWishes
+from quietpairs.errors import BadWishes, NoCalm
+from quietpairs.following import book, follows, tells
 from quietpairs.groups import Group
+from quietpairs.halves import fault, half, lots, paired
+from quietpairs.leaving import change, fewest, most_pairs
+from quietpairs.pairs import both, may, sure, table
 
 
 class Examples(unittest.TestCase):
@@ -14,6 +18,9 @@ class Examples(unittest.TestCase):
         people = ("ann", "bob", "cat")
         wishes = {"ann": ["bob", "cat"], "bob": ["cat", "ann"], "cat": ["ann", "bob"]}
         self.group = Group(people, wishes)
+        people = ("ann", "bob", "cat", "dan")
+        wishes = {"ann": ["bob", "dan"], "bob": ["cat", "ann"], "cat": ["dan", "bob"], "dan": ["ann", "cat"]}
+        self.four = Group(people, wishes)
 
     def test_group(self):
         group = self.group
@@ -31,13 +38,47 @@ class Examples(unittest.TestCase):
         raises(self, BadWishes, {"person": "bob"}, Group, ("ann", "bob"), {"ann": ["bob"], "bob": ["bob"]})
 
     def test_calm(self):
-        people = ("ann", "bob", "cat", "dan")
-        wishes = {"ann": ["bob", "dan"], "bob": ["cat", "ann"], "cat": ["dan", "bob"], "dan": ["ann", "cat"]}
-        group = Group(people, wishes)
-        self.assertEqual(calm(group), [(('ann', 'bob'), ('cat', 'dan')), (('ann', 'dan'), ('bob', 'cat'))])
+        self.assertEqual(calm(self.four), [(('ann', 'bob'), ('cat', 'dan')), (('ann', 'dan'), ('bob', 'cat'))])
 
     def test_quarrels(self):
         self.assertEqual(quarrels(self.group, {"ann": "bob", "bob": "ann", "cat": None}), [('bob', 'cat')])
+
+    def test_half_and_lots(self):
+        self.assertEqual([sorted(half(self.group).items()), lots(self.group)],
+                         [[('ann', 'bob'), ('bob', 'cat'), ('cat', 'ann')], [('ann', 'bob', 'cat')]])
+
+    def test_fault(self):
+        self.assertEqual(fault(self.group, {"ann": "cat", "cat": "bob", "bob": "ann"}), ('order', 'ann'))
+
+    def test_paired(self):
+        x = {"ann": "bob", "bob": "cat", "cat": "dan", "dan": "ann"}
+        self.assertEqual(sorted(paired(self.four, x).items()),
+                         [('ann', 'bob'), ('bob', 'ann'), ('cat', 'dan'), ('dan', 'cat')])
+
+    def test_fewest_and_change(self):
+        self.assertEqual([fewest(self.group), change(self.group, "bob")], [1, ('gone', ('ann', 'bob', 'cat'))])
+
+    def test_most_pairs(self):
+        self.assertEqual(most_pairs(self.group)[0], 1)
+
+    def test_may_and_both(self):
+        self.assertEqual([may(self.four, "bob"), both(self.four, "ann", "bob", "cat", "bob")], [['cat', 'ann'], None])
+
+    def test_table(self):
+        self.assertEqual(table(self.four)[("ann", "cat")], [('bob', 'dan'), ('dan', 'bob')])
+
+    def test_sure(self):
+        raises(self, NoCalm, {}, sure, self.group)
+
+    def test_tells_and_book(self):
+        self.assertEqual([tells(self.four, ("least", "ann", "bob"), ("most", "dan", "cat")), len(book(self.four))],
+                         [True, 12])
+
+    def test_follows(self):
+        group = Group(("ann", "bob"), {"ann": ["bob"], "bob": ["ann"]})
+        self.assertEqual(follows(group, ("most", "bob", "ann")),
+                         [('least', 'ann', 'bob'), ('least', 'bob', 'ann'),
+                          ('most', 'ann', 'bob'), ('most', 'bob', 'ann')])
 
 
 if __name__ == "__main__":

@@ -107,6 +107,52 @@ class Language(unittest.TestCase):
                 if isinstance(node, ast.Call) and isinstance(node.func, ast.Attribute):
                     self.assertIn(node.func.attr, METHODS | own)
 
+    def test_names_of_imports_and_classes_mean_nothing_else(self):
+        for _, tree in self.each():
+            own = [node.name for node in tree.body if isinstance(node, ast.ClassDef)]
+            own.extend(alias.name for node in tree.body if isinstance(node, ast.ImportFrom) for alias in node.names)
+            names = list(bound(tree))
+            for name in own:
+                self.assertEqual(names.count(name), 1, name)
+
+    def test_functions_mean_nothing_else(self):
+        for _, tree in self.each():
+            names = list(bound(tree))
+            for node in tree.body:
+                if isinstance(node, ast.FunctionDef):
+                    self.assertEqual(names.count(node.name), 1, node.name)
+
+    def test_sets_are_sorted_on_the_spot(self):
+        for _, tree in self.each():
+            passed = [id(arg) for node in ast.walk(tree) if isinstance(node, ast.Call)
+                      and isinstance(node.func, ast.Name) and node.func.id in ("sorted", "len") for arg in node.args]
+            for node in ast.walk(tree):
+                if isinstance(node, ast.SetComp):
+                    self.assertIn(id(node), passed)
+
+    def test_inner_comprehensions_have_names_of_their_own(self):
+        kinds = (ast.ListComp, ast.DictComp, ast.SetComp)
+        for _, tree in self.each():
+            for function in [node for node in ast.walk(tree) if isinstance(node, ast.FunctionDef)]:
+                for outer in [node for node in ast.walk(function) if isinstance(node, kinds)]:
+                    for inner in [node for node in ast.walk(outer) if isinstance(node, kinds) and node is not outer]:
+                        targets = {name for part in inner.generators for name in bound(part.target)}
+                        inside = [id(node) for node in ast.walk(inner)]
+                        others = {name for node in ast.walk(function) if id(node) not in inside
+                                  and isinstance(node, (ast.Name, ast.arg)) for name in bound(node)}
+                        self.assertEqual(targets & others, set(), function.name)
+
+    def test_imports_go_one_way(self):
+        found = {}
+        for path in FILES:
+            tree = ast.parse(path.read_text(encoding="utf-8"))
+            found[path.stem] = {node.module.split(".")[1] for node in tree.body if isinstance(node, ast.ImportFrom)}
+        while found:
+            free = [name for name in found if not found[name] & set(found)]
+            self.assertTrue(free, found)
+            for name in free:
+                del found[name]
+
     def test_strings(self):
         for _, tree in self.each():
             for node in ast.walk(tree):
