@@ -85,7 +85,7 @@ def _is_quiet(group, x, a):
     return not any([b in x and a in _above(group, x, b) for b in _above(group, x, a)])
 
 
-def _dealt(x, a, b):
+def dealt(x, a, b):
     """The beginning of a dealing, with a and b as partners; with a alone if b is None."""
     longer = dict(x)
     longer[a] = b
@@ -101,17 +101,22 @@ def _calm_from(group, free, x):
     found = []
     a = free[0]
     for b in [None] + [c for c in free if (a, c) in group]:
-        longer = _dealt(x, a, b)
+        longer = dealt(x, a, b)
         # What quarrels now quarrels in every dealing that begins so.
         if _is_quiet(group, longer, a) and (b is None or _is_quiet(group, longer, b)):
             found.extend(_calm_from(group, [c for c in free if c not in longer], longer))
     return found
 
 
+def check_size(group, most):
+    """Raise TooMany if the group has more people than this."""
+    if len(group) > most:
+        raise TooMany(most)
+
+
 def calm(group):
     """The sorted list of all calm dealings, written as pairs."""
-    if len(group) > MOST_TO_LIST:
-        raise TooMany(MOST_TO_LIST)
+    check_size(group, MOST_TO_LIST)
     return sorted([_written(x) for x in _calm_from(group, group.people(), {})])
 
 

@@ -6,9 +6,14 @@ def is_name(value):
     return isinstance(value, str) and 1 <= len(value) <= 8 and all(["a" <= letter <= "z" for letter in value])
 
 
+def is_from_zero(value):
+    """Whether the value is an integer from 0 on; True and False are not integers."""
+    return isinstance(value, int) and not isinstance(value, bool) and value >= 0
+
+
 def is_up_to(value, most):
-    """Whether the value is an integer from 0 to this one; True and False are not integers."""
-    return isinstance(value, int) and not isinstance(value, bool) and 0 <= value <= most
+    """Whether the value is an integer from 0 to this one."""
+    return is_from_zero(value) and value <= most
 
 
 def has_keys(value, names):

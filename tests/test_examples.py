@@ -3,13 +3,17 @@
 import unittest
 
 from helpers import raises
+from quietpairs.cheapest import Scale, least_total
 from quietpairs.dealings import calm, quarrels
-from quietpairs.errors import BadWishes, NoCalm
+from quietpairs.edits import core, mend
+from quietpairs.errors import BadWishes, NoCalm, NoText
 from quietpairs.following import book, follows, tells
 from quietpairs.groups import Group
 from quietpairs.halves import fault, half, lots, paired
 from quietpairs.leaving import change, fewest, most_pairs
+from quietpairs.live import Round
 from quietpairs.pairs import both, may, sure, table
+from quietpairs.texts import group_text, read_group
 
 
 class Examples(unittest.TestCase):
@@ -79,6 +83,34 @@ class Examples(unittest.TestCase):
         self.assertEqual(follows(group, ("most", "bob", "ann")),
                          [('least', 'ann', 'bob'), ('least', 'bob', 'ann'),
                           ('most', 'ann', 'bob'), ('most', 'bob', 'ann')])
+
+    def test_cheapest(self):
+        scale = Scale({"ann": 5}, rest=2)
+        x = {"ann": "bob", "bob": "ann", "cat": "dan", "dan": "cat"}
+        self.assertEqual([scale(self.four, x), least_total(self.four, scale)[0], (scale + scale).weight("bob")],
+                         [4, 4, 4])
+
+    def test_core(self):
+        people = ("ann", "bob", "cat")
+        wishes = {"ann": ["bob", "cat"], "bob": ["ann", "cat"], "cat": ["ann", "bob"]}
+        self.assertEqual(core(Group(people, wishes)).pairs(), [('ann', 'bob')])
+
+    def test_mend(self):
+        self.assertEqual(mend(self.group), [('ann', 0)])
+
+    def test_live(self):
+        live = Round(self.group)
+        live.leave("ann")
+        told = live.moved()
+        live.undo()
+        self.assertEqual([told, live.moved(), len(live)],
+                         [([('ann', 'bob', 'cat')], []), ([], [('ann', 'bob', 'cat')]), 0])
+
+    def test_group_text(self):
+        self.assertEqual(group_text(self.group), 'people ann bob cat\nann: bob cat\nbob: cat ann\ncat: ann bob\n')
+
+    def test_read_group(self):
+        raises(self, NoText, {"line": 3}, read_group, "people ann bob\nann: bob\nbob:  ann\n")
 
 
 if __name__ == "__main__":

@@ -47,6 +47,17 @@ def bound(tree):
             yield node.name
 
 
+def bound_outside_classes(tree):
+    """Every name that a file binds anywhere, except for methods, which are read off objects alone."""
+    names = list(bound(tree))
+    for node in ast.walk(tree):
+        if isinstance(node, ast.ClassDef):
+            for method in node.body:
+                if isinstance(method, ast.FunctionDef):
+                    names.remove(method.name)
+    return names
+
+
 class Language(unittest.TestCase):
 
     def each(self):
@@ -111,13 +122,13 @@ class Language(unittest.TestCase):
         for _, tree in self.each():
             own = [node.name for node in tree.body if isinstance(node, ast.ClassDef)]
             own.extend(alias.name for node in tree.body if isinstance(node, ast.ImportFrom) for alias in node.names)
-            names = list(bound(tree))
+            names = bound_outside_classes(tree)
             for name in own:
                 self.assertEqual(names.count(name), 1, name)
 
     def test_functions_mean_nothing_else(self):
         for _, tree in self.each():
-            names = list(bound(tree))
+            names = bound_outside_classes(tree)
             for node in tree.body:
                 if isinstance(node, ast.FunctionDef):
                     self.assertEqual(names.count(node.name), 1, node.name)
@@ -152,6 +163,30 @@ class Language(unittest.TestCase):
             self.assertTrue(free, found)
             for name in free:
                 del found[name]
+
+    def test_decorators(self):
+        for _, tree in self.each():
+            for node in ast.walk(tree):
+                if isinstance(node, ast.FunctionDef):
+                    self.assertIn([part.id for part in node.decorator_list], [[], ["property"]])
+                    self.assertTrue(not node.decorator_list or len(node.args.args) == 1)
+
+    def test_tries(self):
+        for _, tree in self.each():
+            for node in [node for node in ast.walk(tree) if isinstance(node, ast.Try)]:
+                self.assertEqual(node.handlers, [])
+                for part in [part for row in node.finalbody for part in ast.walk(row)]:
+                    self.assertIsInstance(part, (ast.Assign, ast.Tuple, ast.Attribute, ast.Name, ast.expr_context))
+
+    def test_methods_are_no_attributes(self):
+        methods, attributes = set(), set()
+        for _, tree in self.each():
+            for node in ast.walk(tree):
+                if isinstance(node, ast.ClassDef):
+                    methods.update(row.name for row in node.body if isinstance(row, ast.FunctionDef))
+                if isinstance(node, ast.Attribute) and isinstance(node.ctx, ast.Store):
+                    attributes.add(node.attr)
+        self.assertEqual(methods & attributes, set())
 
     def test_strings(self):
         for _, tree in self.each():
